@@ -1,0 +1,1 @@
+"""Pinnedheap: how many pages a heap needs whose blocks never move."""
