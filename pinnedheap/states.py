@@ -46,6 +46,18 @@ def places(chain, pages, state, size):
     return tuple(found)
 
 
+def is_place(chain, pages, state, address, size):
+    """Return True if any value is a place for a size."""
+    return may_hold(state, address, size) and address + size <= pages * chain[-1]
+
+
+def may_hold(state, address, size):
+    """Return True if any value is an address at which a heap without an end has a place for a size."""
+    if not is_integer(address) or address < 0 or address % size != 0:
+        return False
+    return all([start + taken <= address or address + size <= start for start, taken in state])
+
+
 def with_block(state, address, size):
     """Return the state with one more block."""
     return tuple(sorted([*state, (address, size)]))

@@ -21,6 +21,23 @@ INTERFACE = {
         "reaches": ["chain", "state"], "keepers": ["chain", "state", "size"], "count_states": ["chain", "pages"],
         "all_states": ["chain", "pages", "limit"],
     },
+    "bounds": {
+        "bounds": ["chain", "limit"], "pages_needed": ["chain", "limit"], "outlook": ["chain", "limit", "state"],
+        "careless_pages": ["chain", "limit"],
+    },
+    "rules": {"place": ["rule", "chain", "pages", "state", "size"], "allocator": ["rule", "chain", "pages"]},
+    "heaps": {"replay": ["chain", "pages", "limit", "history"]},
+    "pressure": {
+        "exhaust": ["chain", "limit", "pages", "allocate"], "shows_exhaustion": ["chain", "limit", "pages", "value"],
+    },
+}
+# Of each class: its file, the parameters of its constructor, those by name only, and its methods with theirs.
+CLASSES = {
+    "Heap": ("heaps", ["chain", "pages", "limit"], ["rule"], {
+        "get": ["size"], "put": ["address", "size"], "free": ["address"], "undo": [], "state": [], "live": [], "outlook": [],
+        "history": [], "copy": [], "__len__": [],
+    }),
+    "Pressure": ("pressure", ["chain", "limit"], [], {"request": [], "answer": ["answer"], "state": [], "phase": []}),
 }
 
 
@@ -42,6 +59,11 @@ def bound_names(node):
     if isinstance(node, ast.Name) and isinstance(node.ctx, ast.Store):
         return [node.id]
     return []
+
+
+def imported_names(file):
+    """Return the names that a file imports."""
+    return {alias.asname or alias.name for name, node in nodes(ast.ImportFrom) if name == file for alias in node.names}
 
 
 class Language(unittest.TestCase):
@@ -99,6 +121,37 @@ class Language(unittest.TestCase):
             if isinstance(node.op, ast.Pow):
                 self.assertIsInstance(node.right, ast.Constant, name)
 
+    def test_no_name_has_two_meanings(self):
+        methods = {item.name for name, node in nodes(ast.ClassDef) for item in node.body if isinstance(item, ast.FunctionDef)}
+        assigned = {node.attr for name, node in nodes(ast.Attribute) if isinstance(node.ctx, ast.Store)}
+        self.assertEqual(methods & assigned, set())
+        for name, node in nodes(ast.FunctionDef):
+            given = {bound for item in ast.walk(node) if isinstance(item, (ast.arg, ast.Name)) for bound in bound_names(item)}
+            self.assertEqual(given & imported_names(name), set(), (name, node.name))
+
+    def test_no_two_files_import_from_each_other(self):
+        imports = {name: [] for name in sources()}
+        for name, node in nodes(ast.ImportFrom):
+            imports[name].append(node.module.split(".")[1] + ".py")
+        while imports:
+            ready = [name for name in imports if not any(other in imports for other in imports[name])]
+            self.assertTrue(ready, imports)
+            imports = {name: others for name, others in imports.items() if name not in ready}
+
+    def test_errors_that_are_caught_and_raised(self):
+        own = {node.name for name, node in nodes(ast.ClassDef) if name == "errors.py"}
+        for name, node in nodes(ast.ExceptHandler):
+            self.assertIn(node.type.id, own, name)
+        for name, node in nodes(ast.Raise):
+            self.assertIn(node.exc.func.id, own, name)
+
+    def test_is(self):
+        for name, node in nodes(ast.Compare):
+            for sign, right in zip(node.ops, node.comparators):
+                if isinstance(sign, (ast.Is, ast.IsNot)):
+                    self.assertIsInstance(right, ast.Constant, name)
+                    self.assertIn(str(right.value), ("None", "True", "False"), name)
+
     def test_statements(self):
         self.assertEqual(nodes((ast.Global, ast.AsyncFunctionDef, ast.Await)), [])
 
@@ -111,6 +164,17 @@ class Interface(unittest.TestCase):
             for name, parameters in functions.items():
                 with self.subTest(module=module, name=name):
                     self.assertEqual([item.arg for item in found[name].args.args], parameters)
+
+    def test_classes_stand_in_their_files_with_their_methods(self):
+        for name, (module, parameters, named, methods) in CLASSES.items():
+            body = ast.parse(sources()[module + ".py"]).body
+            bodies = {item.name: item.body for item in body if isinstance(item, ast.ClassDef)}
+            found = {item.name: item.args for item in bodies[name] if isinstance(item, ast.FunctionDef)}
+            self.assertEqual([item.arg for item in found["__init__"].args], ["self", *parameters])
+            self.assertEqual([item.arg for item in found["__init__"].kwonlyargs], named)
+            for method, taken in methods.items():
+                with self.subTest(name=name, method=method):
+                    self.assertEqual([item.arg for item in found[method].args], ["self", *taken])
 
 
 if __name__ == "__main__":

@@ -5,31 +5,10 @@ import unittest
 from pinnedheap.errors import BadSize, NoBlock
 from pinnedheap.states import (is_state, keepers, live_words, places, reaches, used_pages, with_block,
                                without_block)
-from tests.samples import assert_error, is_plain_integer, random_states, shown, values
+from tests.samples import (assert_error, is_plain_integer, keepers_by_word, owners, places_by_word, random_states,
+                           reaches_by_word, shown, values)
 
 STATE = ((0, 1), (2, 2), (4, 4))
-
-
-def owners(state):
-    """Return the block of each word that has one."""
-    return {word: block for block in state for word in range(block[0], block[0] + block[1])}
-
-
-def places_by_word(chain, pages, state, size):
-    taken = owners(state)
-    words = pages * chain[-1]
-    return tuple(start for start in range(0, words - size + 1, size)
-                 if not any(word in taken for word in range(start, start + size)))
-
-
-def keepers_by_word(chain, pages, state, size):
-    taken = owners(state)
-    kept = set()
-    for start in range(0, pages * chain[-1], size):
-        inside = {taken[word] for word in range(start, start + size) if word in taken}
-        if inside:
-            kept.add(min(inside, key=lambda block: (block[1], block[0])))
-    return tuple(sorted(kept))
 
 
 class IsState(unittest.TestCase):
@@ -231,8 +210,7 @@ class Reaches(unittest.TestCase):
 
     def test_against_words(self):
         for chain, pages, state in random_states():
-            taken = owners(state)
-            expected = tuple(max((word + 1 for word in taken if taken[word][1] <= size), default=0) for size in chain)
+            expected = reaches_by_word(chain, state)
             self.assertEqual(reaches(chain, state), expected)
             self.assertEqual(reaches(state=state, chain=chain), expected)
 
