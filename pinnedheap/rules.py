@@ -1,7 +1,7 @@
 """Rules by which an allocator chooses among the places for a size."""
 
 from pinnedheap.errors import BadRule
-from pinnedheap.states import places
+from pinnedheap.states import gaps
 
 RULES = ("lowest", "highest", "tight", "loose")
 
@@ -15,33 +15,47 @@ def place(rule, chain, pages, state, size):
     """Return the place that the rule chooses for a size, or None if there is none."""
     if not is_rule(rule):
         raise BadRule(rule)
-    found = places(chain, pages, state, size)
+    found = gaps(chain, pages, state, size)
     if not found:
         return None
     if rule == "lowest":
-        return found[0]
+        return found[0][0]
     if rule == "highest":
-        return found[-1]
-    return place_by_page(rule, chain, found, free_words(chain, pages, state))
+        return found[-1][1]
+    return place_by_page(rule, chain, state, found)
 
 
-def place_by_page(rule, chain, found, free):
+def place_by_page(rule, chain, state, found):
     """Return the lowest place in the page with the fewest free words, or with the most."""
-    def free_around(address):
-        return free[address // chain[-1]]
+    page = chain[-1]
+    taken = taken_words(chain, state)
+    candidates = []
+    for first, last in found:
+        candidates.extend(lowest_by_page(first, last, page))
 
-    # The places ascend, and of several that tie Python takes the first one.
+    def taken_around(address):
+        return taken.get(address // page, 0)
+
+    # The candidates ascend, and of several that tie Python takes the first one.
     if rule == "tight":
-        return min(found, key=free_around)
-    return max(found, key=free_around)
+        return max(candidates, key=taken_around)
+    return min(candidates, key=taken_around)
 
 
-def free_words(chain, pages, state):
-    """Return the list of the numbers of free words in all pages."""
-    free = [chain[-1]] * pages
+def lowest_by_page(first, last, page):
+    """Return the list of the lowest places of a gap in its first page, in its second one and in its last one."""
+    # The pages between the second and the last one are as empty as the second, so they never come first.
+    starts = [(first // page + 1) * page, last // page * page]
+    return [first] + [start for start in starts if first < start <= last]
+
+
+def taken_words(chain, state):
+    """Return the numbers of words in blocks, of each page that has a block."""
+    taken = {}
     for address, size in state:
-        free[address // chain[-1]] -= size
-    return free
+        number = address // chain[-1]
+        taken[number] = taken.get(number, 0) + size
+    return taken
 
 
 def allocator(rule, chain, pages):

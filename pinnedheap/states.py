@@ -5,6 +5,8 @@ from pinnedheap.errors import NoBlock, TooMany
 from pinnedheap.integers import divided_up, is_integer
 
 MOST_STATES = 20000
+# Each word holds a block of one word or none, so one word more has more states than MOST_STATES.
+MOST_WORDS = 14
 
 
 def is_state(chain, pages, value):
@@ -35,15 +37,25 @@ def live_words(state):
 
 def places(chain, pages, state, size):
     """Return the ascending tuple of all places for a size."""
+    found = []
+    for first, last in gaps(chain, pages, state, size):
+        found.extend(list(range(first, last + 1, size)))
+    return tuple(found)
+
+
+def gaps(chain, pages, state, size):
+    """Return the ascending list of pairs (first, last) of places for a size that no block separates."""
     class_of(chain, size)
     found = []
     free_from = 0
     # A block of no words behind the last page closes the last gap.
     for address, taken in (*state, (pages * chain[-1], 0)):
         first = divided_up(free_from, size) * size
-        found.extend(list(range(first, address - size + 1, size)))
+        last = (address - size) // size * size
+        if first <= last:
+            found.append((first, last))
         free_from = address + taken
-    return tuple(found)
+    return found
 
 
 def is_place(chain, pages, state, address, size):
@@ -65,11 +77,15 @@ def with_block(state, address, size):
 
 def without_block(state, address):
     """Return the state without the block at this address."""
-    kept = tuple([block for block in state if block[0] != address])
-    # False == 0, so the comparison alone would take a bool for an address.
-    if not is_integer(address) or len(kept) == len(state):
+    if not has_block(state, address):
         raise NoBlock(address)
-    return kept
+    return tuple([block for block in state if block[0] != address])
+
+
+def has_block(state, value):
+    """Return True if any value is the address of a block."""
+    # False == 0, so `in` alone would take a bool for an address.
+    return is_integer(value) and value in [address for address, size in state]
 
 
 def used_pages(chain, state):
@@ -121,10 +137,23 @@ def power(base, times):
     return product
 
 
+def check_many(many):
+    """Raise an error if there are more states than the package looks at."""
+    if many > MOST_STATES:
+        raise TooMany(MOST_STATES)
+
+
+def check_heap(chain, pages):
+    """Raise an error if a heap with so many pages has more states than the package looks at."""
+    # The states of a large heap are too many to be counted.
+    if pages * chain[-1] > MOST_WORDS:
+        raise TooMany(MOST_STATES)
+    check_many(count_states(chain, pages))
+
+
 def all_states(chain, pages, limit):
     """Return the ascending tuple of all states with at most `limit` live words."""
-    if count_states(chain, pages) > MOST_STATES:
-        raise TooMany(MOST_STATES)
+    check_heap(chain, pages)
     found = states_of_words(chain, pages * chain[-1])
     return tuple(sorted([state for state in found if live_words(state) <= limit]))
 

@@ -2,6 +2,8 @@
 
 import random
 
+from pinnedheap.errors import TooMany
+
 RULES = ("lowest", "highest", "tight", "loose")
 
 
@@ -43,7 +45,7 @@ def is_plain_integer(value):
     return type(value) is int
 
 
-def assert_error(case, error, attribute, value, function, *arguments, **named):
+def assert_error(case, error, attribute, value, function, /, *arguments, **named):
     """Assert that the call raises the very error with the very value and leaves the value as it was."""
     before = shown(value)
     with case.assertRaises(error) as caught:
@@ -51,6 +53,14 @@ def assert_error(case, error, attribute, value, function, *arguments, **named):
     case.assertIs(type(caught.exception), error)
     case.assertIs(getattr(caught.exception, attribute), value)
     case.assertEqual(shown(value), before)
+
+
+def assert_too_many(case, function, /, *arguments, **named):
+    """Assert that the call raises TooMany(20000)."""
+    with case.assertRaises(TooMany) as caught:
+        function(*arguments, **named)
+    case.assertIs(type(caught.exception), TooMany)
+    case.assertEqual(shown(caught.exception.limit), shown(20000))
 
 
 def shown(value):
@@ -209,6 +219,81 @@ def changed_events(history):
         for place, part in enumerate(item):
             found.extend((*head, (*item[:place], other, *item[place + 1:]), *tail) for other in replaced(part))
     return found
+
+
+def changed(value):
+    """Return values that differ from a value in one thing, at any depth."""
+    found = replaced(value)
+    if isinstance(value, tuple):
+        for number, item in enumerate(value):
+            head, tail = value[:number], value[number + 1:]
+            found.append((*head, *tail))
+            found.append((*head, item, item, *tail))
+            if tail:
+                found.append((*head, tail[0], item, *tail[1:]))
+            found.extend((*head, other, *tail) for other in changed(item))
+    return found
+
+
+def is_state_by_word(chain, pages, value):
+    """Look at a value as is_state should, by marking words."""
+    if type(value) is not tuple or any(type(block) is not tuple or len(block) != 2 for block in value):
+        return False
+    taken = []
+    for address, size in value:
+        if type(address) is not int or type(size) is not int or size not in chain or address % size:
+            return False
+        taken.extend(range(address, address + size))
+    return taken == sorted(set(taken)) and all(0 <= word < pages * chain[-1] for word in taken)
+
+
+def words_in_blocks(state):
+    return sum(size for address, size in state)
+
+
+def added(state, address, size):
+    return tuple(sorted((*state, (address, size))))
+
+
+def removed(state, address):
+    return tuple(block for block in state if block[0] != address)
+
+
+def states_by_word(chain, pages, limit):
+    """Return all states with at most so many live words, found by adding block after block."""
+    seen = {()}
+    left = [()]
+    while left:
+        state = left.pop()
+        for size in chain:
+            for address in places_by_word(chain, pages, state, size):
+                larger = added(state, address, size)
+                if words_in_blocks(larger) <= limit and larger not in seen:
+                    seen.add(larger)
+                    left.append(larger)
+    return sorted(seen)
+
+
+def moves_by_rounds(chain, limit, pages):
+    """Return the fewest moves of each unsafe state: round after round, a look at every state that is left."""
+    left = states_by_word(chain, pages, limit)
+    moves = {}
+    newest = [None]
+    while newest:
+        newest = [state for state in left if fails_next(chain, limit, pages, state, moves)]
+        number = max(moves.values(), default=0) + 1
+        moves.update((state, number) for state in newest)
+        left = [state for state in left if state not in moves]
+    return moves
+
+
+def fails_next(chain, limit, pages, state, moves):
+    """Return True if a move leads to nothing but states that have moves."""
+    if any(removed(state, address) in moves for address, size in state):
+        return True
+    sizes = [size for size in chain if words_in_blocks(state) + size <= limit]
+    return any(all(added(state, address, size) in moves for address in places_by_word(chain, pages, state, size))
+               for size in sizes)
 
 
 HEAPS = (

@@ -30,6 +30,19 @@ INTERFACE = {
     "pressure": {
         "exhaust": ["chain", "limit", "pages", "allocate"], "shows_exhaustion": ["chain", "limit", "pages", "value"],
     },
+    "receipts": {
+        "receipt": ["chain", "state", "size", "address"], "shows_receipt": ["chain", "state", "size", "address", "value"],
+        "shown_words": ["chain", "state", "size", "address"],
+    },
+    "games": {
+        "is_safe": ["chain", "limit", "pages", "state"], "moves_to_fail": ["chain", "limit", "pages", "state"],
+        "plan": ["chain", "limit", "pages", "state"], "shows_plan": ["chain", "limit", "pages", "state", "value"],
+        "strategy": ["chain", "limit", "pages", "state"], "shows_strategy": ["chain", "limit", "pages", "state", "value"],
+    },
+    "growing": {
+        "open_after": ["chain", "limit", "rule", "history"], "worst_pages": ["chain", "limit", "rule"],
+        "worst_history": ["chain", "limit", "rule"],
+    },
 }
 # Of each class: its file, the parameters of its constructor, those by name only, and its methods with theirs.
 CLASSES = {

@@ -59,6 +59,14 @@ class Place(unittest.TestCase):
         for size in CHAIN:
             self.assertEqual([place(rule, CHAIN, 3, (), size) for rule in RULES], [0, 12 - size, 0, 0])
 
+    def test_a_great_heap(self):
+        words = 4 * 10**20
+        for size in CHAIN:
+            self.assertEqual([place(rule, CHAIN, 10**20, (), size) for rule in RULES], [0, words - size, 0, 0])
+        state = ((0, 4), (5, 1), (words - 8, 1), (words - 4, 2))
+        self.assertEqual([place(rule, CHAIN, 10**20, state, 1) for rule in RULES], [4, words - 1, words - 2, 8])
+        self.assertEqual([place(rule, CHAIN, 10**20, state, 4) for rule in RULES], [8, words - 12, 8, 8])
+
     def test_pages_that_tie(self):
         state = ((1, 1), (4, 1), (8, 4), (12, 1), (18, 2), (22, 2))
         self.assertEqual(place("tight", CHAIN, 7, state, 1), 16)
