@@ -1,13 +1,19 @@
-"""What the package guarantees: (a) enough, (b) not fewer, (c) outlook."""
+"""What the package guarantees: (a) enough, (b) not fewer, (c) outlook, and where games, rules and texts meet them."""
 
 import random
 import unittest
 
 from pinnedheap.bounds import bounds, outlook, pages_needed
 from pinnedheap.chains import class_of
-from pinnedheap.heaps import Heap
+from pinnedheap.desk import Desk
+from pinnedheap.games import is_safe, moves_to_fail, plan, shows_plan, shows_strategy, strategy
+from pinnedheap.growing import open_after, worst_history, worst_pages
+from pinnedheap.heaps import Heap, replay
 from pinnedheap.pressure import Pressure, exhaust, shows_exhaustion
+from pinnedheap.reading import read_chain, read_history, read_state
+from pinnedheap.receipts import receipt, shown_words, shows_receipt
 from pinnedheap.rules import allocator, place
+from pinnedheap.showing import show_chain, show_history, show_state
 from pinnedheap.states import all_states, live_words, places, reaches, with_block, without_block
 from tests.samples import RULES, busy_chunks, random_state
 
@@ -167,6 +173,77 @@ class Outlook(unittest.TestCase):
         for chain, limit in (*TINY, *SMALL):
             self.assertEqual(Heap(chain, 0, limit).outlook(), bounds(chain, limit))
             self.assertEqual(outlook(chain, limit, ()), bounds(chain, limit))
+
+
+class Receipts(unittest.TestCase):
+    def test_lowest_has_a_receipt_for_every_block(self):
+        for seed, (chain, limit) in enumerate(SMALL):
+            heap = Heap(chain, pages_needed(chain, limit), limit)
+            for address, size in random_walk(heap, chain, limit, 150, seed):
+                before = without_block(heap.state(), address)
+                found = receipt(chain, before, size, address)
+                self.assertIs(shows_receipt(chain, before, size, address, found), True)
+                self.assertLessEqual(shown_words(chain, before, size, address), live_words(before))
+
+
+class Games(unittest.TestCase):
+    CASES = (((1, 2), 4), ((1, 2), 5), ((1, 3), 5), ((1, 3), 6), ((1, 2, 4), 5), ((1, 2, 4), 6), ((1,), 5), ((1, 2, 6), 6))
+
+    def test_a_state_has_one_kind_of_evidence(self):
+        for chain, limit in self.CASES:
+            for pages in range(pages_needed(chain, limit) + 1):
+                states = all_states(chain, pages, limit)
+                for state in states[::len(states) // 9 + 1]:
+                    moves = moves_to_fail(chain, limit, pages, state)
+                    if moves is None:
+                        found = plan(chain, limit, pages, state)
+                    else:
+                        found = strategy(chain, limit, pages, state)
+                        self.assertEqual([item[1] for item in found if item[0] == state], [moves])
+                    self.assertIs(shows_plan(chain, limit, pages, state, found), moves is None)
+                    self.assertIs(shows_strategy(chain, limit, pages, state, found), moves is not None)
+
+    def test_pressure_makes_no_allocator_fail_sooner_than_the_fewest_moves(self):
+        for chain, limit in self.CASES:
+            pages = pages_needed(chain, limit) - 1
+            fewest = moves_to_fail(chain, limit, pages, ())
+            found = [exhaust(chain, limit, pages, allocator(rule, chain, pages)) for rule in RULES]
+            self.assertLessEqual(fewest, max(len(events) for events in found))
+
+    def test_lowest_reaches_safe_states_only(self):
+        for seed, (chain, limit) in enumerate(self.CASES[:6]):
+            pages = pages_needed(chain, limit)
+            heap = Heap(chain, pages, limit)
+            for block in random_walk(heap, chain, limit, 15, seed):
+                self.assertIs(is_safe(chain, limit, pages, heap.state()), True)
+
+    def test_a_worst_history_of_a_growing_heap_is_one_of_a_heap(self):
+        for chain, limit in self.CASES:
+            for rule in RULES:
+                history = worst_history(chain, limit, rule)
+                most = worst_pages(chain, limit, rule)
+                self.assertEqual(open_after(chain, limit, rule, history), most)
+                self.assertEqual(replay(chain, most, limit, history).history(), history)
+
+
+class Texts(unittest.TestCase):
+    def test_texts_are_read_back_and_desks_answer_as_heaps(self):
+        for seed, (chain, limit) in enumerate(SMALL):
+            for rule in RULES:
+                pages = 2 * pages_needed(chain, limit)
+                heap = Heap(chain, pages, limit, rule=rule)
+                desk = Desk(f"chain {show_chain(chain)}\npages {pages}\nlimit {limit}\nrule {rule}")
+                self.assertGreater(len(list(random_walk(heap, chain, limit, 60, seed))), 10)
+                for event in heap.history():
+                    line = f"free {event[1]}" if event[0] == "free" else f"get {event[1]}"
+                    self.assertEqual(desk.say(line), "done" if event[0] == "free" else str(event[2]))
+                self.assertEqual(desk.say("state"), show_state(heap.state()))
+                self.assertEqual(desk.say("history").split(" / "), show_history(heap.history()).split("\n"))
+                self.assertEqual(read_chain(show_chain(chain)), chain)
+                self.assertEqual(read_state(chain, pages, show_state(heap.state())), heap.state())
+                self.assertEqual(read_history(chain, show_history(heap.history())), heap.history())
+                again = replay(chain, pages, limit, read_history(chain, show_history(heap.history())))
+                self.assertEqual(again.state(), heap.state())
 
 
 if __name__ == "__main__":

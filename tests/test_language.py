@@ -43,6 +43,12 @@ INTERFACE = {
         "open_after": ["chain", "limit", "rule", "history"], "worst_pages": ["chain", "limit", "rule"],
         "worst_history": ["chain", "limit", "rule"],
     },
+    "sizing": {
+        "most_live": ["chain", "words"], "request_mix": ["chain", "words"], "enough_pages": ["chain", "words"],
+        "best_chain": ["page", "words"],
+    },
+    "showing": {"show_chain": ["chain"], "show_state": ["state"], "show_history": ["history"]},
+    "reading": {"read_chain": ["text"], "read_state": ["chain", "pages", "text"], "read_history": ["chain", "text"]},
 }
 # Of each class: its file, the parameters of its constructor, those by name only, and its methods with theirs.
 CLASSES = {
@@ -50,6 +56,7 @@ CLASSES = {
         "get": ["size"], "put": ["address", "size"], "free": ["address"], "undo": [], "state": [], "live": [], "outlook": [],
         "history": [], "copy": [], "__len__": [],
     }),
+    "Desk": ("desk", ["text"], [], {"say": ["line"]}),
     "Pressure": ("pressure", ["chain", "limit"], [], {"request": [], "answer": ["answer"], "state": [], "phase": []}),
 }
 
