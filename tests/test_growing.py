@@ -305,6 +305,14 @@ class Worst(unittest.TestCase):
         # All states of 14 words, and those on which fewer pages are open: 2**14 + 2**13 + ... + 1 pairs.
         assert_too_many(self, worst_pages, (1,), 14, "lowest")
 
+    def test_closest_to_the_most_pairs(self):
+        # No chain with a page of up to 30 words has exactly 20000 pairs: 19935 are the most below, 20215 the fewest above.
+        self.assertEqual(worst_pages((1, 6, 12), 10, "loose"), 2)
+        self.assertEqual(open_after((1, 6, 12), 10, "loose", worst_history((1, 6, 12), 10, "loose")), 2)
+        for rule in ("lowest", "tight", "loose"):
+            assert_too_many(self, worst_pages, (1, 9, 27), 14, rule)
+        assert_too_many(self, worst_history, (1, 2), 10, "lowest")
+
     def test_the_rule_decides_whether_there_are_too_many(self):
         self.assertEqual(worst_pages((1, 2), 8, "lowest"), 6)
         self.assertEqual(worst_pages((1, 2), 8, "loose"), 7)
